@@ -44,3 +44,15 @@ func Take(b []byte) (held, rest []byte, err error) {
 	}
 	return held, rest, nil
 }
+
+// TakeWhole takes the frame that all of b must be.
+func TakeWhole(b []byte) ([]byte, error) {
+	held, rest, err := Take(b)
+	if err != nil {
+		return nil, err
+	}
+	if len(rest) > 0 {
+		return nil, fault.At("frame", fault.ErrTail)
+	}
+	return held, nil
+}

@@ -100,3 +100,16 @@ func TestText(t *testing.T) {
 		t.Errorf("End: %v", err)
 	}
 }
+
+func TestTakeWhole(t *testing.T) {
+	good := Make([]byte("some bytes"))
+	if held, err := TakeWhole(good); string(held) != "some bytes" || err != nil {
+		t.Errorf("TakeWhole = %q, %v", held, err)
+	}
+	if held, err := TakeWhole(append(good, 0)); held != nil || !errors.Is(err, fault.ErrTail) {
+		t.Errorf("with a byte behind: %q, %v", held, err)
+	}
+	if held, err := TakeWhole(good[:len(good)-1]); held != nil || !errors.Is(err, fault.ErrShort) {
+		t.Errorf("without its last byte: %q, %v", held, err)
+	}
+}

@@ -1,8 +1,6 @@
-// Package layer: the layers that a store's entries lie in.
 package layer
 
 import (
-	"iter"
 	"slices"
 	"strings"
 
@@ -28,17 +26,19 @@ func (m *Memory) Put(c api.Change) {
 	m.entries = slices.Insert(m.entries, at, c)
 }
 
-// Find the entry of a key.
-func (m *Memory) Find(key string) (api.Change, bool) {
-	at, found := slices.BinarySearchFunc(m.entries, key, compareKey)
-	if !found {
-		return api.Change{}, false
-	}
-	return m.entries[at], true
+// From goes through the entries whose keys are not below this one.
+func (m *Memory) From(key string) Entries {
+	at, _ := slices.BinarySearchFunc(m.entries, key, compareKey)
+	return list(m.entries[at:]).each
 }
 
-// From goes through the entries whose keys are not below this one, rising.
-func (m *Memory) From(key string) iter.Seq[api.Change] {
-	at, _ := slices.BinarySearchFunc(m.entries, key, compareKey)
-	return slices.Values(m.entries[at:])
+// list of entries, which can't fail.
+type list []api.Change
+
+func (l list) each(yield func(api.Change, error) bool) {
+	for _, c := range l {
+		if !yield(c, nil) {
+			return
+		}
+	}
 }

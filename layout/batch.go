@@ -21,12 +21,7 @@ func AllowedBatch(batch []api.Change) bool {
 
 // Batch is the frame of an allowed batch.
 func Batch(number int, batch []api.Change) []byte {
-	b := frame.AppendNumber(nil, uint64(number), 8)
-	b = append(b, byte(len(batch)))
-	for _, c := range batch {
-		b = appendEntry(b, c)
-	}
-	return frame.Make(b)
+	return frame.Make(appendEntries(frame.AppendNumber(nil, uint64(number), 8), batch))
 }
 
 // TakeBatch takes the first frame of a log, which must be that of the batch of this number; and tells what stands behind it.
@@ -50,23 +45,5 @@ func readBatch(r *frame.Reader, number int) ([]api.Change, error) {
 	if found != uint64(number) {
 		return nil, fault.At("number of the batch", fault.ErrValue)
 	}
-	count, err := r.Number(1)
-	if err != nil {
-		return nil, err
-	}
-	if count < 1 || count > api.MaxBatch {
-		return nil, fault.At("count of changes", fault.ErrValue)
-	}
-	var batch []api.Change
-	for range count {
-		c, err := readEntry(r)
-		if err != nil {
-			return nil, fault.At("entry", err)
-		}
-		batch = append(batch, c)
-	}
-	if err := r.End(); err != nil {
-		return nil, err
-	}
-	return batch, nil
+	return readEntries(r, api.MaxBatch)
 }

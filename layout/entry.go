@@ -1,4 +1,4 @@
-// Package layout: what stands in the store's files: entries, batches, the manifest; and the files' names.
+// Package layout: what stands in the store's files: entries, batches, runs, the manifest; and the files' names.
 package layout
 
 import (
@@ -31,6 +31,15 @@ func appendEntry(b []byte, c api.Change) []byte {
 	return appendText(appendText(append(b, kindValue), c.Key), c.Value)
 }
 
+// appendEntries puts entries behind b, and how many they are ahead of them.
+func appendEntries(b []byte, entries []api.Change) []byte {
+	b = append(b, byte(len(entries)))
+	for _, c := range entries {
+		b = appendEntry(b, c)
+	}
+	return b
+}
+
 func readEntry(r *frame.Reader) (api.Change, error) {
 	kind, err := r.Number(1)
 	if err != nil {
@@ -54,4 +63,27 @@ func readEntry(r *frame.Reader) (api.Change, error) {
 		return api.Change{}, fault.ErrValue
 	}
 	return c, nil
+}
+
+// readEntries reads how many entries there are, 1 to most, and these, behind which nothing may stand.
+func readEntries(r *frame.Reader, most uint64) ([]api.Change, error) {
+	count, err := r.Number(1)
+	if err != nil {
+		return nil, fault.At("count of entries", err)
+	}
+	if count < 1 || count > most {
+		return nil, fault.At("count of entries", fault.ErrValue)
+	}
+	var entries []api.Change
+	for range count {
+		c, err := readEntry(r)
+		if err != nil {
+			return nil, fault.At("entry", err)
+		}
+		entries = append(entries, c)
+	}
+	if err := r.End(); err != nil {
+		return nil, fault.At("entries", err)
+	}
+	return entries, nil
 }

@@ -147,8 +147,37 @@ func TestManifestWrong(t *testing.T) {
 	}
 }
 
-func TestNames(t *testing.T) {
-	if got := (Manifest{Next: 20, Log: 12}).Names(); !slices.Equal(got, []string{"manifest", "log-12"}) {
-		t.Errorf("Names = %q", got)
+func TestFiles(t *testing.T) {
+	for _, c := range []struct {
+		m       Manifest
+		files   []string
+		settled []int
+	}{
+		{Manifest{Next: 20, Log: 12}, []string{"log-12"}, nil},
+		{Manifest{Next: 20, Log: 12, Base: 3}, []string{"run-3", "log-12"}, []int{3}},
+		{Manifest{Next: 20, Log: 12, Runs: []int{9, 7}}, []string{"run-9", "run-7", "log-12"}, []int{9, 7}},
+		{Manifest{Next: 20, Log: 12, Base: 8, Runs: []int{9, 7}}, []string{"run-9", "run-7", "run-8", "log-12"}, []int{9, 7, 8}},
+	} {
+		if got := c.m.Files(); !slices.Equal(got, c.files) {
+			t.Errorf("Files = %q, want %q", got, c.files)
+		}
+		if got := c.m.Settled(); !slices.Equal(got, c.settled) {
+			t.Errorf("Settled = %v, want %v", got, c.settled)
+		}
+	}
+	m := Manifest{Next: 20, Log: 12, Base: 8, Runs: make([]int, 2, 9)}
+	m.Settled()[0] = 5
+	if m.Runs[0] != 0 || m.Runs[:3][2] != 0 {
+		t.Errorf("Settled shares memory with the manifest: %v", m.Runs[:3])
+	}
+}
+
+func TestTakeNumber(t *testing.T) {
+	m := Manifest{Next: api.MaxNumber - 1}
+	if n, err := m.TakeNumber(); n != api.MaxNumber-1 || err != nil || m.Next != api.MaxNumber {
+		t.Errorf("TakeNumber = %d, %v; next %d", n, err, m.Next)
+	}
+	if n, err := m.TakeNumber(); n != 0 || !errors.Is(err, fault.ErrFull) || m.Next != api.MaxNumber {
+		t.Errorf("TakeNumber = %d, %v; next %d", n, err, m.Next)
 	}
 }

@@ -42,12 +42,9 @@ func (m Manifest) Frame() []byte {
 
 // ReadManifest reads all that the file manifest holds.
 func ReadManifest(b []byte) (Manifest, error) {
-	held, rest, err := frame.Take(b)
+	held, err := frame.TakeWhole(b)
 	if err != nil {
 		return Manifest{}, fault.At("manifest", err)
-	}
-	if len(rest) > 0 {
-		return Manifest{}, fault.At("manifest", fault.ErrTail)
 	}
 	m, err := readFields(frame.NewReader(held))
 	if err != nil {
@@ -116,14 +113,28 @@ func (m Manifest) check() error {
 
 // numbers of all files that are named.
 func (m Manifest) numbers() []int {
-	l := append([]int{m.Log}, m.Runs...)
+	return append(m.Settled(), m.Log)
+}
+
+// Settled tells the numbers of the runs and, behind them, of the base: the newest first.
+func (m Manifest) Settled() []int {
+	l := slices.Clone(m.Runs)
 	if m.Base != 0 {
 		l = append(l, m.Base)
 	}
 	return l
 }
 
-// Names of the files that the store is made of, the manifest's own too.
-func (m Manifest) Names() []string {
-	return []string{ManifestName, LogName(m.Log)}
+// Files: the names of those that are named.
+func (m Manifest) Files() []string {
+	return append(RunNames(m.Settled()), LogName(m.Log))
+}
+
+// TakeNumber takes the next number, for a new file.
+func (m *Manifest) TakeNumber() (int, error) {
+	if m.Next >= api.MaxNumber {
+		return 0, fault.At("next number", fault.ErrFull)
+	}
+	m.Next++
+	return m.Next - 1, nil
 }

@@ -49,6 +49,21 @@ func manifest(next, last, log, base int, runs ...int) string {
 	return frame(s)
 }
 
+// run of these entries, in just this order.
+func run(l ...api.Change) string {
+	blocks, places, count := "", "", 0
+	for part := range slices.Chunk(l, 4) {
+		held := number(len(part), 1)
+		for _, c := range part {
+			held += entry(c)
+		}
+		places += number(len(blocks), 4) + number(len(part[0].Key), 1) + part[0].Key
+		blocks += frame(held)
+		count++
+	}
+	return blocks + frame(number(count, 2)+places) + number(len(blocks), 4)
+}
+
 func set(key, value string) api.Change { return api.Change{Key: key, Value: value} }
 
 func gone(key string) api.Change { return api.Change{Key: key, Gone: true} }
@@ -137,10 +152,30 @@ func wantTells(t *testing.T, s *sediment.Store, want string) {
 func wantLook(t *testing.T, s *sediment.Store, want api.Look) {
 	t.Helper()
 	got := s.Look()
-	runs := got.Runs
-	got.Runs = nil
-	if len(runs) != 0 || got.Batches != want.Batches || got.Log != want.Log || got.Base != want.Base || got.Next != want.Next || got.Degraded != want.Degraded || got.Closed != want.Closed {
-		t.Errorf("Look = %+v, runs %v, want %+v", got, runs, want)
+	if !slices.Equal(got.Runs, want.Runs) || got.Batches != want.Batches || got.Log != want.Log || got.Base != want.Base || got.Next != want.Next || got.Degraded != want.Degraded || got.Closed != want.Closed {
+		t.Errorf("Look = %+v, want %+v", got, want)
+	}
+}
+
+// wantGets: Get tells what Scan does, of these keys and of all that Scan tells.
+func wantGets(t *testing.T, s *sediment.Store, keys ...string) {
+	t.Helper()
+	pairs, e := s.Scan("", "", 1<<30)
+	if e != api.OK {
+		t.Fatalf("Scan = %d", e)
+	}
+	for _, p := range pairs {
+		if v, in, e := s.Get(p.Key); v != p.Value || !in || e != api.OK {
+			t.Errorf("Get(%q) = %q, %v, %d; Scan tells %q", p.Key, v, in, e, p.Value)
+		}
+	}
+	for _, key := range keys {
+		if slices.ContainsFunc(pairs, func(p api.Pair) bool { return p.Key == key }) {
+			continue
+		}
+		if v, in, e := s.Get(key); v != "" || in || e != api.OK {
+			t.Errorf("Get(%q) = %q, %v, %d; Scan does not tell it", key, v, in, e)
+		}
 	}
 }
 

@@ -5,6 +5,7 @@ import (
 
 	"sediment/api"
 	"sediment/fault"
+	"sediment/files"
 	"sediment/layout"
 )
 
@@ -25,7 +26,7 @@ func (s *Store) open() (err error) {
 	if s.disk == nil {
 		return fault.At("no disk", fault.ErrDisk)
 	}
-	b, err := s.read(layout.ManifestName)
+	b, err := files.Read(s.disk, layout.ManifestName)
 	if errors.Is(err, fault.ErrMissing) {
 		return s.begin()
 	}
@@ -44,11 +45,11 @@ func (s *Store) shutAfter(err *error) {
 
 // begin an empty store. Without a manifest no file means anything, so all may go ahead of it.
 func (s *Store) begin() error {
-	if err := s.removeAllBut(nil); err != nil {
+	if err := files.RemoveAllBut(s.disk, nil); err != nil {
 		return err
 	}
 	m := layout.Manifest{Next: 2, Log: 1}
-	if err := s.lay(layout.LogName(m.Log), nil); err != nil {
+	if err := files.Lay(s.disk, layout.LogName(m.Log), nil); err != nil {
 		return err
 	}
 	return s.install(m)
@@ -60,24 +61,40 @@ func (s *Store) load(manifest []byte) error {
 	if err != nil {
 		return err
 	}
-	// Runs can't be read yet: a store that has some is refused, lest it be opened without them.
-	if m.Base != 0 || len(m.Runs) > 0 {
-		return fault.At("runs", fault.ErrMissing)
+	s.manifest, s.last = m, m.Last
+	if err := s.checkRuns(); err != nil {
+		return err
 	}
-	log, err := s.read(layout.LogName(m.Log))
+	log, err := files.Read(s.disk, layout.LogName(m.Log))
 	if err != nil {
 		return err
 	}
-	s.manifest, s.last = m, m.Last
 	if right := s.replay(log); right < len(log) {
 		err = s.renewLog(log[:right])
 	} else {
-		err = s.makeSure()
+		err = files.MakeSure(s.disk, s.names())
 	}
 	if err != nil {
 		return err
 	}
-	return s.removeAllBut(s.manifest.Names())
+	return files.RemoveAllBut(s.disk, s.names())
+}
+
+// names of the files that the store is made of.
+func (s *Store) names() []string {
+	return append(s.manifest.Files(), layout.ManifestName)
+}
+
+// checkRuns goes through all runs and the base, each to its end: none may be found wrong only when it is asked.
+func (s *Store) checkRuns() error {
+	for _, entries := range s.settled("") {
+		for _, err := range entries {
+			if err != nil {
+				return err
+			}
+		}
+	}
+	return nil
 }
 
 // replay applies a log's batches as long as they are right, and tells how many bytes they take.
@@ -97,12 +114,12 @@ func (s *Store) replay(log []byte) int {
 // renewLog writes the frames that are right as a new log: a file can't be cut off, and what is appended behind a wrong frame would not be found.
 func (s *Store) renewLog(frames []byte) error {
 	m := s.manifest
-	if m.Next >= api.MaxNumber {
-		return fault.At("new log", fault.ErrFull)
+	number, err := m.TakeNumber()
+	if err != nil {
+		return fault.At("new log", err)
 	}
-	m.Log = m.Next
-	m.Next++
-	if err := s.lay(layout.LogName(m.Log), frames); err != nil {
+	m.Log = number
+	if err := files.Lay(s.disk, layout.LogName(m.Log), frames); err != nil {
 		return err
 	}
 	return s.install(m)

@@ -1,10 +1,10 @@
 package sediment_test
 
 import (
-	"fmt"
 	"math"
 	"math/rand"
 	"slices"
+	"strconv"
 	"strings"
 	"testing"
 
@@ -44,6 +44,71 @@ func TestP1AnyFiles(t *testing.T) {
 			t.Fatalf("with %q", files)
 		}
 	}
+}
+
+// Whatever lies on the disk as a run, Open answers; and what it opens works.
+func TestP1AnyRuns(t *testing.T) {
+	r := rand.New(rand.NewSource(2))
+	base := run(set("a", "1"), gone("b"), set("c", "3"), set("d", ""), set("e", "5"), gone("f"))
+	newer := run(set("b", "2"))
+	opened := 0
+	for range 20000 {
+		d := laid("manifest", manifest(10, 5, 9, 3, 4), "log-9", frameOf(6, set("g", "6")), "run-3", spoiledRun(r, base), "run-4", spoiledRun(r, newer))
+		files := filesOf(d)
+		s, e := sediment.Open(d)
+		switch {
+		case e == api.OK && s != nil:
+			opened++
+			want := tells(t, s)
+			if got := meaning(t, d); got != want {
+				t.Errorf("the files mean %q, told is %q", got, want)
+			}
+			wantErrno(t, s.Flush(), api.OK)
+			wantErrno(t, s.Compact(), api.OK)
+			wantTells(t, s, want)
+			wantTells(t, open(t, d), want)
+		case e == api.ErrForm && s == nil:
+			wantFiles(t, d, files...)
+		default:
+			t.Errorf("Open = %v, %d", s, e)
+		}
+		if t.Failed() {
+			t.Fatalf("with %q", files)
+		}
+	}
+	if opened == 0 || opened == 20000 {
+		t.Errorf("%d were opened", opened)
+	}
+}
+
+// spoiledRun: a run with something changed, and all its sums set right again, as far as its frames go.
+func spoiledRun(r *rand.Rand, s string) string {
+	b := []byte(s)
+	if r.Intn(3) == 0 {
+		return s
+	}
+	at := r.Intn(len(b))
+	switch r.Intn(4) {
+	case 0:
+		b[at] = byte(r.Intn(256))
+	case 1:
+		b[at] = []byte{0, 1, 2, 4, 5, 16, 17, 40, 41, 'a', 'b', 255}[r.Intn(12)]
+	case 2:
+		b[at]++
+	case 3:
+		b = append(b[:at], b[at+r.Intn(len(b)-at):]...)
+	}
+	out := ""
+	rest := string(b)
+	for len(rest) > 8 {
+		n := int(rest[2])<<8 | int(rest[3])
+		if n > len(rest)-8 {
+			break
+		}
+		out += frame(rest[8 : 8+n])
+		rest = rest[8+n:]
+	}
+	return out + rest
 }
 
 // spoiled: bytes with some of them changed, cut or doubled, and often with their sum set right again.
@@ -123,41 +188,99 @@ func told(model map[string]string) string {
 	return strings.Join(l, " ")
 }
 
-func TestP10(t *testing.T) {
-	for seed := range int64(30) {
+// Stores are used by chance: the files mean what is told, ahead of each call and behind it, and Flush and Compact change nothing of it.
+func TestP10AndP12(t *testing.T) {
+	for seed := range int64(60) {
 		r := rand.New(rand.NewSource(seed))
 		d := disk.New()
 		s := open(t, d)
 		model := map[string]string{}
-		log := ""
-		for i := range 60 {
-			var batch []api.Change
-			for range 1 + r.Intn(api.MaxBatch) {
-				c := change(r)
-				batch = append(batch, c)
-				delete(model, c.Key)
-				if !c.Gone {
-					model[c.Key] = c.Value
-				}
-			}
-			write(t, s, batch...)
-			log += frameOf(i+1, batch...)
-			switch r.Intn(5) {
+		for i := range 80 {
+			switch r.Intn(9) {
 			case 0:
 				wantErrno(t, s.Sync(), api.OK)
 			case 1:
 				wantErrno(t, s.Write(), api.ErrArg)
 			case 2:
+				wantErrno(t, s.Close(), api.OK)
 				s = open(t, d)
+			case 3, 4:
+				wantErrno(t, s.Flush(), api.OK)
+				if b, _ := d.Peek("log-" + strconv.Itoa(s.Look().Log)); len(b) != 0 {
+					t.Errorf("the log has %q behind a Flush", b)
+				}
+			case 5:
+				wantErrno(t, s.Compact(), api.OK)
+				if look := s.Look(); len(look.Runs) != 0 {
+					t.Errorf("Look = %+v behind a Compact", look)
+				}
+			default:
+				batch := batchByChance(r)
+				write(t, s, batch...)
+				apply(model, batch...)
 			}
-			wantFiles(t, d, "log-1", log, "manifest", manifest(2, 0, 1, 0))
 			wantTells(t, s, told(model))
+			wantGets(t, s, "a", "aa", "bbb", "c", "", "z")
+			if got := meaning(t, d); got != told(model) {
+				t.Errorf("the files mean %q, want %q", got, told(model))
+			}
 			wantTells(t, open(t, copyOf(d)), told(model))
 			if t.Failed() {
-				t.Fatalf("seed %d, batch %d", seed, i+1)
+				t.Fatalf("seed %d, step %d", seed, i)
 			}
 		}
 	}
+}
+
+// Of runs that came about by chance any part is told as of a map.
+func TestP9ByChance(t *testing.T) {
+	for seed := range int64(20) {
+		r := rand.New(rand.NewSource(seed))
+		d := disk.New()
+		s := open(t, d)
+		model := map[string]string{}
+		for range 25 {
+			batch := batchByChance(r)
+			write(t, s, batch...)
+			apply(model, batch...)
+			if r.Intn(4) == 0 {
+				wantErrno(t, s.Flush(), api.OK)
+			}
+		}
+		for range 200 {
+			from, to, most := change(r).Key, change(r).Key, r.Intn(12)
+			if r.Intn(8) == 0 {
+				to = ""
+			}
+			l, e := s.Scan(from, to, most)
+			if want := part(model, from, to, most); text(l) != want || e != api.OK {
+				t.Fatalf("seed %d: Scan(%q, %q, %d) = %q, %d, want %q", seed, from, to, most, text(l), e, want)
+			}
+		}
+	}
+}
+
+// part of what a store has, as Scan must tell it.
+func part(model map[string]string, from, to string, most int) string {
+	var keys, l []string
+	for k := range model {
+		if k >= from && (to == "" || k < to) {
+			keys = append(keys, k)
+		}
+	}
+	slices.Sort(keys)
+	for _, k := range keys[:min(most, len(keys))] {
+		l = append(l, k+"="+model[k])
+	}
+	return strings.Join(l, " ")
+}
+
+func batchByChance(r *rand.Rand) []api.Change {
+	var batch []api.Change
+	for range 1 + r.Intn(api.MaxBatch) {
+		batch = append(batch, change(r))
+	}
+	return batch
 }
 
 // P10 of a store whose log was written anew.
@@ -174,26 +297,51 @@ func TestP10Renewed(t *testing.T) {
 	}
 }
 
-// session writes three batches, one of them synced, as far as the disk lets it; told: how many were written, how many of them made sure of.
-func session(d *disk.Disk) (written, sure int) {
+// step of a session: a batch is written, or something else is done.
+type step struct {
+	batch []api.Change
+	call  func(*sediment.Store) api.Errno
+	sure  bool // all that was written is sure, if it is OK
+}
+
+var (
+	syncs    = step{call: (*sediment.Store).Sync, sure: true}
+	flushes  = step{call: (*sediment.Store).Flush, sure: true}
+	compacts = step{call: (*sediment.Store).Compact}
+)
+
+func writes(l ...api.Change) step { return step{batch: l} }
+
+// session does steps, as far as the disk lets it; told: how many batches were written, how many of them made sure of.
+func session(d *disk.Disk, steps []step) (written, sure int) {
 	s, e := sediment.Open(d)
 	if e != api.OK {
 		return 0, 0
 	}
-	for i, sync := range []bool{false, true, false, false} {
-		if sync {
-			if s.Sync() == api.OK {
-				sure = written
+	for _, x := range steps {
+		if x.batch != nil {
+			if s.Write(x.batch...) == api.OK {
+				written++
 			}
-		} else if s.Write(set(fmt.Sprint("k", i), "v")) == api.OK {
-			written++
+		} else if x.call(s) == api.OK && x.sure {
+			sure = written
 		}
 	}
 	return written, sure
 }
 
 // prefixes: what the first so many batches of a session come to.
-var prefixes = []string{"", "k0=v", "k0=v k2=v", "k0=v k2=v k3=v"}
+func prefixes(steps []step) []string {
+	model := map[string]string{}
+	l := []string{""}
+	for _, x := range steps {
+		if x.batch != nil {
+			apply(model, x.batch...)
+			l = append(l, told(model))
+		}
+	}
+	return l
+}
 
 // picks: the choices number n for a crash.
 func picks(n int) []int {
@@ -205,36 +353,49 @@ func picks(n int) []int {
 	return l
 }
 
-// The power goes at any call of a session, and at any call of the Open behind it (P11, as far as it is built).
+// The power goes at any call of a session, and at any call of the Open behind it.
 func TestCrash(t *testing.T) {
-	whole := disk.New()
-	session(whole)
-	for cut := range calls(whole) + 1 {
-		for n := range 243 {
-			for again := range 14 {
-				d := disk.New()
-				d.Cut(cut)
-				written, sure := session(d)
-				d.Crash(picks(n)...)
-				want := atCrash(t, d)
-				d.Cut(again)
-				_, e := sediment.Open(d)
-				d.Crash(picks(n * 7 % 243)...)
-				s := open(t, d)
-				got := slices.Index(prefixes, tells(t, s))
-				if got < sure || got > written || e == api.OK && got != want {
-					t.Fatalf("cut at %d, choices %v, cut again at %d: %d batches of %d, %d were sure", cut, picks(n), again, got, written, sure)
-				}
-				if got != want {
-					t.Fatalf("cut at %d, choices %v, cut again at %d: %d batches, else %d", cut, picks(n), again, got, want)
+	for name, steps := range map[string][]step{
+		"log":     {writes(set("k0", "v")), syncs, writes(set("k2", "v")), writes(set("k3", "v"))},
+		"flush":   {writes(set("a", "1"), set("b", "1")), flushes, writes(gone("a")), writes(set("c", "3"))},
+		"flushes": {writes(set("a", "1")), flushes, writes(set("b", "2")), flushes},
+		"compact": {writes(set("a", "1"), set("b", "1")), flushes, writes(gone("a")), compacts, writes(set("c", "3"))},
+		"nothing": {writes(set("a", "1")), flushes, writes(gone("a")), flushes, compacts},
+	} {
+		whole := disk.New()
+		session(whole, steps)
+		for cut := range calls(whole) + 1 {
+			for n := range 81 {
+				for again := 0; again < 18; again += 1 + n%3 {
+					crash(t, steps, cut, n, again)
+					if t.Failed() {
+						t.Fatalf("%s: cut at %d, choices %v, cut again at %d", name, cut, picks(n), again)
+					}
 				}
 			}
 		}
 	}
 }
 
-// atCrash: how many batches an Open finds, tried on a copy.
-func atCrash(t *testing.T, d *disk.Disk) int {
+func crash(t *testing.T, steps []step, cut, n, again int) {
 	t.Helper()
-	return slices.Index(prefixes, tells(t, open(t, copyOf(d))))
+	d := disk.New()
+	d.Cut(cut)
+	written, sure := session(d, steps)
+	d.Crash(picks(n)...)
+	want := tells(t, open(t, copyOf(d)))
+	d.Cut(again)
+	sediment.Open(d)
+	d.Crash(picks(n * 7 % 243)...)
+	s := open(t, d)
+	got := tells(t, s)
+	if !slices.Contains(prefixes(steps)[sure:written+1], got) {
+		t.Errorf("told %q; %d batches were written, %d sure", got, written, sure)
+	}
+	if got != want {
+		t.Errorf("told %q, and at first %q", got, want)
+	}
+	if means := meaning(t, d); means != got {
+		t.Errorf("the files mean %q, told is %q", means, got)
+	}
 }
