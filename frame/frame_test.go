@@ -11,17 +11,35 @@ import (
 	"sediment/fault"
 )
 
+// Both ways come to the same sums, whichever of them is asked first.
 func TestSum(t *testing.T) {
 	if got := Sum([]byte("123456789")); got != 0xe3069283 {
 		t.Errorf("Sum = %x", got)
 	}
-	castagnoli := crc32.MakeTable(crc32.Castagnoli)
+	if got := TableSum([]byte("123456789")); got != 0xe3069283 {
+		t.Errorf("TableSum = %x", got)
+	}
+	for i := range 256 {
+		wantSums(t, []byte{byte(i)})
+	}
 	var b []byte
 	for i := range 600 {
-		if got, want := Sum(b), crc32.Checksum(b, castagnoli); got != want {
-			t.Fatalf("Sum of %d bytes = %x, want %x", i, got, want)
-		}
+		wantSums(t, b)
 		b = append(b, byte(i*i+i>>3))
+	}
+	for _, s := range []string{"", "\x00", strings.Repeat("\x00", 32), strings.Repeat("\xff", 32), "sediment", strings.Repeat("layers settle ", 5000)} {
+		wantSums(t, []byte(s))
+	}
+}
+
+func wantSums(t *testing.T, b []byte) {
+	t.Helper()
+	want := crc32.Checksum(b, crc32.MakeTable(crc32.Castagnoli))
+	if got := Sum(b); got != want {
+		t.Errorf("Sum of %d bytes = %x, want %x", len(b), got, want)
+	}
+	if got := TableSum(b); got != want {
+		t.Errorf("TableSum of %d bytes = %x, want %x", len(b), got, want)
 	}
 }
 
