@@ -179,14 +179,7 @@ func change(r *rand.Rand) api.Change {
 }
 
 // told is what Scan must tell of these keys.
-func told(model map[string]string) string {
-	var l []string
-	for k, v := range model {
-		l = append(l, k+"="+v)
-	}
-	slices.Sort(l)
-	return strings.Join(l, " ")
-}
+func told(model map[string]string) string { return part(model, "", "", len(model)) }
 
 // Stores are used by chance: the files mean what is told, ahead of each call and behind it, and Flush and Compact change nothing of it.
 func TestP10AndP12(t *testing.T) {
