@@ -93,12 +93,25 @@ func runOf(t *testing.T, d *disk.Disk, n int) []api.Change {
 	return l
 }
 
-// meaning of the files on a disk, told as by tells. Nothing but these files may lie there.
+// meaning of the files on a disk, told as by tells. Nothing but these files may lie there, and nothing but batches in the log.
 func meaning(t *testing.T, d *disk.Disk) string {
+	t.Helper()
+	told, names, tail := means(t, d)
+	if got := d.All(); !slices.Equal(got, names) {
+		t.Errorf("the disk has %q, the manifest names %q", got, names)
+	}
+	if tail != "" {
+		t.Errorf("behind the log's batches stands %q", tail)
+	}
+	return told
+}
+
+// means: what the manifest's files mean, whatever else lies beside them; their names, and that of the manifest; and what stands in the log behind its batches.
+func means(t *testing.T, d *disk.Disk) (meant string, names []string, tail string) {
 	t.Helper()
 	m := fileOf(t, d, "manifest").frame()
 	next, last, log, base := m.number(8), m.number(8), m.number(8), m.number(8)
-	names := []string{"log-" + strconv.Itoa(log), "manifest"}
+	names = []string{"log-" + strconv.Itoa(log), "manifest"}
 	layers := []int{}
 	for range m.number(2) {
 		layers = append(layers, m.number(8))
@@ -116,18 +129,27 @@ func meaning(t *testing.T, d *disk.Disk) string {
 		}
 	}
 	l := fileOf(t, d, names[0])
-	for l.rest != "" {
+	for l.startsWith(last + 1) {
 		b := l.frame()
-		if last++; b.number(8) != last {
-			t.Fatalf("batch %d is not the next one", last)
-		}
+		last = b.number(8)
 		apply(model, b.entries()...)
 	}
 	slices.Sort(names)
-	if got := d.All(); !slices.Equal(got, names) {
-		t.Errorf("the disk has %q, the manifest names %q", got, names)
+	return told(model), names, l.rest
+}
+
+// startsWith a whole frame with the batch of this number.
+func (c *cutter) startsWith(number int) bool {
+	if len(c.rest) < 8 {
+		return false
 	}
-	return told(model)
+	head := cutter{c.t, c.rest}
+	n := head.number(4)
+	head.take(4)
+	if n < 8 || n > len(head.rest) || frame(head.rest[:n]) != c.rest[:8+n] {
+		return false
+	}
+	return head.number(8) == number
 }
 
 // apply changes to what a store has.

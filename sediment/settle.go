@@ -39,6 +39,11 @@ func (s *Store) install(m layout.Manifest) error {
 	return nil
 }
 
+// syncLog makes sure of the log. So it is done ahead of anything that is laid beside it, too: were the log torn when the power goes, Open would have to write it anew, and what was laid might have left no room for that.
+func (s *Store) syncLog() error {
+	return files.Sync(s.disk, layout.LogName(s.manifest.Log))
+}
+
 // flush lets what lies in memory settle in a new run, and begins a new log.
 func (s *Store) flush() error {
 	old, m := s.manifest, s.manifest
@@ -53,6 +58,9 @@ func (s *Store) flush() error {
 	m.Last, m.Runs = s.last, append([]int{run}, m.Runs...)
 	entries, err := layer.Gather(s.memory.From(""), "")
 	if err != nil {
+		return err
+	}
+	if err := s.syncLog(); err != nil {
 		return err
 	}
 	if err := files.Lay(s.disk, layout.RunName(run), layout.MakeRun(entries)); err != nil {
@@ -79,6 +87,9 @@ func (s *Store) compact() error {
 	if len(live) > 0 {
 		m.Base, err = m.TakeNumber()
 		if err != nil {
+			return err
+		}
+		if err := s.syncLog(); err != nil {
 			return err
 		}
 		if err := files.Lay(s.disk, layout.RunName(m.Base), layout.MakeRun(live)); err != nil {
